@@ -1,0 +1,1 @@
+"""Frankmarks: marks for words, by what people believe."""

@@ -1,0 +1,8 @@
+"""The limits."""
+
+MAX_ANSWERS = 4
+MAX_BATCH = 20
+MAX_BOOK = 6
+MAX_EDITS = 40
+MAX_MARK = 10 ** 6
+MAX_WORDS = 8
