@@ -1,8 +1,8 @@
 """Rows, menus and beliefs, and what words are worth at a belief."""
 
 from frankmarks.bounds import MAX_ANSWERS, MAX_MARK, MAX_WORDS
-from frankmarks.errors import BadBelief, NoWord
-from frankmarks.exact import common_divisor, fraction, is_integer, primitive
+from frankmarks.errors import BadBelief, NoWord, Unlike
+from frankmarks.exact import common_divisor, dot, fraction, is_integer, primitive
 
 
 def is_mark(value):
@@ -54,9 +54,14 @@ def belief_of(counts):
     return primitive(counts)
 
 
+def is_word(words, value):
+    """Tell whether value is one of so many words."""
+    return is_integer(value) and 0 <= value < words
+
+
 def need_word(menu, word):
     """Raise NoWord if word is not a word of the menu."""
-    if not is_integer(word) or not 0 <= word < len(menu):
+    if not is_word(len(menu), word):
         raise NoWord(word)
 
 
@@ -66,26 +71,33 @@ def need_belief(menu, belief):
         raise BadBelief(belief)
 
 
-def _total(row, belief):
-    return sum([mark * item for mark, item in zip(row, belief)])
+def need_same_answers(one, other):
+    """Raise Unlike if the rows of two menus have unlike numbers of marks."""
+    if len(one[0]) != len(other[0]):
+        raise Unlike()
 
 
 def gain(menu, word, belief):
     """Return the average mark of the word at the belief, a fraction."""
     need_word(menu, word)
     need_belief(menu, belief)
-    return fraction(_total(menu[word], belief), sum(belief))
+    return fraction(dot(menu[word], belief), sum(belief))
+
+
+def total_worth(menu, belief):
+    """Return the worth at the belief, not yet divided by the sum of the belief."""
+    return max([dot(row, belief) for row in menu])
 
 
 def worth(menu, belief):
     """Return the greatest gain of a word at the belief, a fraction."""
     need_belief(menu, belief)
-    return fraction(max([_total(row, belief) for row in menu]), sum(belief))
+    return fraction(total_worth(menu, belief), sum(belief))
 
 
 def best(menu, belief):
     """Return the words that have the greatest gain at the belief, ascending."""
     need_belief(menu, belief)
-    totals = [_total(row, belief) for row in menu]
+    totals = [dot(row, belief) for row in menu]
     greatest = max(totals)
     return tuple([word for word, total in enumerate(totals) if total == greatest])

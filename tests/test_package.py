@@ -18,6 +18,25 @@ FUNCTIONS = {
         "row_text": ["row"], "menu_text": ["menu"], "belief_text": ["belief"], "parse_row": ["value"],
         "parse_menu": ["value"], "parse_belief": ["value"],
     },
+    "cells": {
+        "corners": ["menu", "word"], "border": ["menu", "one", "other"], "cell_kind": ["menu", "word"],
+        "inner": ["menu", "word"], "parted": ["menu", "one", "other"],
+    },
+    "papers": {
+        "stand": ["menu", "word"], "stand_holds": ["menu", "word", "value"], "reach": ["menu", "word"],
+        "reach_holds": ["menu", "word", "value"], "useful": ["menu"], "compare": ["one", "other"],
+        "compare_holds": ["one", "other", "value"], "under": ["one", "other"], "under_holds": ["one", "other", "value"],
+    },
+    "lies": {
+        "loss": ["menu", "said", "belief"], "lie": ["menu", "word", "said"], "greatest_loss": ["menu", "said"],
+        "steady": ["menu"], "calm": ["menu"], "calm_holds": ["menu", "value"], "plain": ["menu"],
+        "like": ["one", "other"],
+    },
+    "pairs": {
+        "book_error": ["value"], "is_book": ["value"], "book_of": ["menu"], "same_book": ["one", "other"],
+        "says": ["book", "one", "other", "belief"], "order_at": ["book", "belief"], "find_round": ["book"],
+        "round_holds": ["book", "value"], "find_marks": ["book"], "marks_holds": ["book", "value"], "freedom": ["book"],
+    },
 }
 
 LIBRARY = {"math": ("gcd", "lcm", "isqrt", "comb", "perm", "factorial")}
