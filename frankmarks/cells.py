@@ -58,3 +58,13 @@ def lone_belief(menu, word):
     # If there is such a belief, the one in the middle of the cell is one.
     belief = _middle(found)
     return belief if best(menu, belief) == (word,) else None
+
+
+def share_lone_belief(one, word, other, said):
+    """Tell whether at some belief word is the only best one of the menu one, and said that of other."""
+    found = corners_of(len(one[0]), _leads(one, word) + _leads(other, said))
+    if not found:
+        return False
+    # As in lone_belief: what both cells have in common has its middle inside of both, or inside of none.
+    belief = _middle(found)
+    return best(one, belief) == (word,) and best(other, belief) == (said,)

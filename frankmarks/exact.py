@@ -8,6 +8,11 @@ def is_integer(value):
     return isinstance(value, int) and not isinstance(value, bool)
 
 
+def is_index(many, value):
+    """Tell whether value is the index of one of so many items."""
+    return is_integer(value) and 0 <= value < many
+
+
 def common_divisor(items):
     """Return the greatest common divisor of integers, 0 if all of them are 0."""
     divisor = 0
@@ -50,6 +55,11 @@ def dot(one, other):
 def difference(one, other):
     """Return the items of one less those of other, place by place."""
     return tuple([item - less for item, less in zip(one, other)])
+
+
+def row_sum(one, other):
+    """Return the items of one and those of other added, place by place."""
+    return tuple([item + more for item, more in zip(one, other)])
 
 
 def column_sums(answers, rows):

@@ -1,8 +1,8 @@
 """Rows, menus and beliefs, and what words are worth at a belief."""
 
 from frankmarks.bounds import MAX_ANSWERS, MAX_MARK, MAX_WORDS
-from frankmarks.errors import BadBelief, NoWord, Unlike
-from frankmarks.exact import common_divisor, dot, fraction, is_integer, primitive
+from frankmarks.errors import BadBelief, BadMenu, BadRow, NoWord, Unlike
+from frankmarks.exact import common_divisor, dot, fraction, is_index, is_integer, primitive
 
 
 def is_mark(value):
@@ -56,7 +56,30 @@ def belief_of(counts):
 
 def is_word(words, value):
     """Tell whether value is one of so many words."""
-    return is_integer(value) and 0 <= value < words
+    return is_index(words, value)
+
+
+def is_answer(menu, value):
+    """Tell whether value is an answer of the menu."""
+    return is_index(len(menu[0]), value)
+
+
+def has_row(menu, value):
+    """Tell whether value is a row of the menu: True and False are no marks."""
+    return is_row(value) and value in menu
+
+
+def need_menu(value):
+    """Raise BadMenu if value is not a menu."""
+    error = menu_error(value)
+    if error is not None:
+        raise BadMenu(error)
+
+
+def need_row(menu, row):
+    """Raise BadRow if row is not a row with as many marks as those of the menu."""
+    if not is_row(row) or len(row) != len(menu[0]):
+        raise BadRow(row)
 
 
 def need_word(menu, word):

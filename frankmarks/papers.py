@@ -19,6 +19,15 @@ def stand(menu, word):
     return ("shut", weights_at_least(menu, others_than(menu, word), menu[word]))
 
 
+def first_shut(menu):
+    """Return the first word that others shut out, beside weights of them that do so, None if there is none."""
+    for word in range(len(menu)):
+        kind, found = stand(menu, word)
+        if kind == "shut":
+            return (word, found)
+    return None
+
+
 def stand_holds(menu, word, value):
     """Tell whether value is what stand may return."""
     need_word(menu, word)

@@ -37,18 +37,19 @@ def belief_text(belief):
     return ":".join([_integer_text(item) for item in belief])
 
 
-def _integer_of(text):
-    # None stands for a text that is no integer's: no row and no belief has it among its items.
+def integer_of(text, most):
+    """Return the integer that has this text, of at most so many digits, None if there is none."""
     # The length comes first, because Python refuses to read more than some thousand digits.
     digits = text[1:] if text.startswith("-") else text
-    if len(digits) > _READ_DIGITS or not digits.isdecimal():
+    if len(digits) > most or not digits.isdecimal():
         return None
     number = int(text)
     return number if str(number) == text else None
 
 
 def _integers_of(text, sign):
-    return tuple([_integer_of(part) for part in text.split(sign)])
+    # No row and no belief has None among its items.
+    return tuple([integer_of(part, _READ_DIGITS) for part in text.split(sign)])
 
 
 def parse_row(value):

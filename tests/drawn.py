@@ -225,3 +225,25 @@ def otherwise(value):
         for at, item in enumerate(value):
             for changed in otherwise(item):
                 yield value[:at] + (changed,) + value[at + 1:]
+
+
+def bowed_row(counts):
+    """Return the row that is the best one at the belief of the counts, of all rows of counts with this sum."""
+    less = sum(count * count for count in counts)
+    return tuple(2 * sum(counts) * count - less for count in counts)
+
+
+def bowed(rng, answers, words, total=12):
+    """Return a drawn menu each word of which is the only best one somewhere."""
+    spots = [counts for counts in itertools.product(range(total + 1), repeat=answers) if sum(counts) == total]
+    return tuple(bowed_row(counts) for counts in rng.sample(spots, words))
+
+
+def bowed_pairs(seed, many):
+    """Return pairs of such menus with as many answers, many of whose rows are the same."""
+    rng = random.Random(seed)
+    pairs = []
+    for number in range(many):
+        answers = 2 + number % 3
+        pairs.append(tuple(bowed(rng, answers, rng.randint(1, 8), 12 if answers == 2 else 4) for _ in range(2)))
+    return pairs

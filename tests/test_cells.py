@@ -7,7 +7,7 @@ import math
 import unittest
 
 import drawn
-from frankmarks.cells import border, cell_kind, corners, inner, parted
+from frankmarks.cells import border, cell_kind, corners, inner, lone_belief, parted, share_lone_belief
 from frankmarks.errors import BadBelief, NoCell, NoWord
 from judges import Refusing, averages, bad_beliefs, bad_words, belief_right, independent
 
@@ -246,6 +246,26 @@ class Untouched(unittest.TestCase):
                 with self.assertRaises((NoWord, BadBelief)):
                     call()
             self.assertEqual(value, kept)
+
+
+class LoneBeliefs(unittest.TestCase):
+    def test_two_words_that_share_one(self):
+        thirds = ((3, 0), (2, 2), (0, 3))
+        halves = ((1, 0), (0, 1), (0, -9))
+        found = [[share_lone_belief(thirds, word, halves, said) for said in range(3)] for word in range(3)]
+        self.assertEqual(found, [[True, False, False], [True, True, False], [False, True, False]])
+        turned = [[share_lone_belief(halves, said, thirds, word) for said in range(3)] for word in range(3)]
+        self.assertEqual(turned, found)
+
+    def test_a_word_that_has_none_shares_none(self):
+        plain = ((0, 0),)
+        for menu in drawn.SPECIAL_MENUS:
+            if len(menu[0]) == 2:
+                for word in range(len(menu)):
+                    alone = lone_belief(menu, word) is not None
+                    self.assertIs(share_lone_belief(menu, word, plain, 0), alone)
+                    self.assertIs(share_lone_belief(plain, 0, menu, word), alone)
+                    self.assertIs(share_lone_belief(menu, word, menu, word), alone)
 
 
 if __name__ == "__main__":

@@ -2,16 +2,20 @@
 
 import unittest
 
+from frankmarks.benches import Bench, FrankBench
 from frankmarks.cells import border, cell_kind, corners, inner, parted
-from frankmarks.errors import BadText, TooFew
+from frankmarks.errors import BadText, Rejected, TooFew
 from frankmarks.forms import belief_of, best, gain, is_belief, menu_error, worth
+from frankmarks.joins import both, either, seen, shifted, times
 from frankmarks.lies import calm, calm_holds, greatest_loss, lie, like, loss, plain, steady
+from frankmarks.menus import Menu
 from frankmarks.pairs import (
     book_error, book_of, find_marks, find_round, freedom, marks_holds, order_at, round_holds, same_book, says,
 )
 from frankmarks.papers import (
     compare, compare_holds, reach, reach_holds, stand, stand_holds, under, under_holds, useful,
 )
+from frankmarks.shells import Shell
 from frankmarks.texts import belief_text, menu_text, parse_belief, parse_menu
 
 U = ((4, 0), (0, 4), (3, 3), (1, 1))
@@ -19,6 +23,7 @@ M = ((3, 0), (2, 2), (0, 3))
 P = ((1, 0, 0), (0, 1, 0), (0, 0, 1))
 N = ((2, 0), (0, 2), (1, 1), (1, 0))
 E = ((1, 0), (0, 1))
+Q = ((1, 0), (0, 1))
 R = ((0, 1, (1, -1)), (0, 2, (-1, 1)), (1, 2, (1, -1)))
 W = ((0, 1, (1, -3)), (0, 2, (3, -5)), (0, 3, (4, -5)), (1, 2, (1, -1)), (1, 3, (5, -3)), (2, 3, (3, -1)))
 
@@ -170,6 +175,49 @@ class SectionE(unittest.TestCase):
             [freedom(book_of(M)), freedom(W), freedom(book_of(((1, 2), (0, 0)))), freedom(((0, 1, (0, 0, 0)),))],
             [1, None, 2, 0],
         )
+
+
+class SectionF(unittest.TestCase):
+    def test_joins(self):
+        self.assertEqual(
+            [both(Q, Q), either(((3, 0), (0, 3)), ((2, 2),)), times(((1, -1), (0, 0)), 3), shifted(Q, (5, 7)),
+             seen(((3, 0), (0, 4)), (0, 0, 1))],
+            [((0, 2), (2, 0)), ((0, 3), (2, 2), (3, 0)), ((3, -3), (0, 0)), ((6, 7), (5, 8)), ((3, 3, 0), (0, 0, 4))],
+        )
+
+
+class SectionN(unittest.TestCase):
+    def test_menus(self):
+        one = Menu(U)
+        self.assertEqual(
+            [len(one), one[2], bool(one), bool(Menu(U[:3])), one((3, 1)), (3, 3) in one, str(Menu(((0, -2),)))],
+            [4, (3, 3), False, True, (3, 1), True, "0,-2"],
+        )
+        self.assertEqual(
+            [one == Menu(U[:3]), one.is_alike(Menu(U[:3])), Menu(U[:2]).is_under(one), one.is_under(Menu(U[:2])),
+             Menu(U[:2]) | Menu(U[2:]) == Menu(((0, 4), (3, 3), (4, 0)))],
+            [False, True, True, False, True],
+        )
+        self.assertIs(2 * Menu(((1, -1),)) + Menu(((0, 3),)) == Menu(((2, 1),)), True)
+
+    def test_benches_and_shells(self):
+        bench = Bench(U)
+        shell = Shell(bench)
+        self.assertEqual(
+            [shell("stands"), shell("drop 3"), shell("mark 2 0 2"), shell("stands"), shell("worth 1:1"),
+             shell("best 1:1")],
+            ["alone alone alone shut", "ok 1", "ok 2", "alone alone alone", "5/2", "2"],
+        )
+        self.assertEqual(
+            [bench.compared(until=1), bench.stands_at(version=0), shell("put 1,2,3"), shell("put 1,02"),
+             shell("lie 0 2"), shell("useful")],
+            [("alike",), ("alone", "alone", "alone", "shut"), "error BadRow", "unknown command", "0/1 2/1",
+             "0,4 | 2,3 | 4,0"],
+        )
+        with self.assertRaises(Rejected) as caught:
+            FrankBench(U[:3]).attempt((("mark", 2, 0, 2), ("put", (0, 0))))
+        self.assertEqual(caught.exception.index, 1)
+        self.assertEqual(repr(caught.exception), "Rejected(1)")
 
 
 if __name__ == "__main__":

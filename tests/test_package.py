@@ -1,6 +1,7 @@
 """[Z3] and the plain rules for files: what the package contains, and under which names."""
 
 import ast
+import builtins
 import importlib
 import inspect
 import pathlib
@@ -37,6 +38,28 @@ FUNCTIONS = {
         "says": ["book", "one", "other", "belief"], "order_at": ["book", "belief"], "find_round": ["book"],
         "round_holds": ["book", "value"], "find_marks": ["book"], "marks_holds": ["book", "value"], "freedom": ["book"],
     },
+    "joins": {
+        "both": ["one", "other"], "either": ["one", "other"], "times": ["menu", "number"], "shifted": ["menu", "row"],
+        "seen": ["menu", "answers"],
+    },
+}
+
+# Each class with its base, its methods with their parameters (behind a star those by keyword), its operators, and
+# its properties.
+CLASSES = {
+    ("menus", "Menu"): (
+        "object", {"is_under": "other", "is_alike": "other"},
+        "init getitem iter contains len str bool call add or mul rmul eq", ("rows", "answers"),
+    ),
+    ("benches", "Bench"): (
+        "object",
+        {"put": "row", "drop": "word", "mark": "word answer number", "shift": "row", "undo": "",
+         "attempt": "batch *on_step=None", "edits": "", "menu_at": "*version=None", "stands_at": "*version=None",
+         "compared": "*since=0 *until=None", "each_version": "", "copy": ""},
+        "init iadd isub getitem setitem iter contains len str bool eq", (),
+    ),
+    ("benches", "FrankBench"): ("Bench", {}, "init", ("owns",)),
+    ("shells", "Shell"): ("object", {}, "init call", ()),
 }
 
 LIBRARY = {"math": ("gcd", "lcm", "isqrt", "comb", "perm", "factorial")}
@@ -55,6 +78,37 @@ class Interface(unittest.TestCase):
                     function = getattr(loaded, name)
                     self.assertEqual(function.__module__, "frankmarks." + module)
                     self.assertEqual(list(inspect.signature(function).parameters), parameters)
+
+    def test_each_class_is_defined_in_its_module_with_all_that_is_listed_for_it(self):
+        for (module, name), (base, methods, operators, properties) in CLASSES.items():
+            with self.subTest(name):
+                made = getattr(importlib.import_module("frankmarks." + module), name)
+                self.assertEqual((made.__module__, made.__bases__[0].__name__), ("frankmarks." + module, base))
+                own = vars(made)
+                for method, parameters in methods.items():
+                    self.assertEqual(told_parameters(own[method]), parameters.split())
+                for operator in operators.split():
+                    self.assertTrue(callable(own[f"__{operator}__"]))
+                for name_of_one in properties:
+                    self.assertIsNone(own[name_of_one].fset)
+                    self.assertIsNotNone(own[name_of_one].fget)
+
+    def test_nothing_else_can_be_asked_of_the_objects(self):
+        for (module, name), (_, methods, _, properties) in CLASSES.items():
+            with self.subTest(name):
+                own = vars(getattr(importlib.import_module("frankmarks." + module), name))
+                public = [each for each in own if not each.startswith("_") and each not in methods]
+                self.assertEqual([each for each in public if each != "copy"], list(properties))
+
+
+def told_parameters(function):
+    """The parameters behind the first one, those by keyword with a star, with their default values."""
+    found = []
+    for parameter in list(inspect.signature(function).parameters.values())[1:]:
+        star = "*" if parameter.kind is inspect.Parameter.KEYWORD_ONLY else ""
+        default = "" if parameter.default is inspect.Parameter.empty else f"={parameter.default}"
+        found.append(star + parameter.name + default)
+    return found
 
 
 class Files(unittest.TestCase):
@@ -81,6 +135,25 @@ class Files(unittest.TestCase):
                 if isinstance(node, ast.ImportFrom):
                     with self.subTest(path.name, module=node.module):
                         self.check_import(node)
+
+    def test_no_name_has_a_second_meaning(self):
+        for path in package_files():
+            tree = ast.parse(path.read_text("ascii"))
+            taken = defined_names(tree) | set(dir(builtins))
+            for node in tree.body:
+                if isinstance(node, ast.ImportFrom):
+                    taken.update(alias.name for alias in node.names)
+            for node in ast.walk(tree):
+                if isinstance(node, ast.arg):
+                    self.assertNotIn(node.arg, taken, path.name)
+                if isinstance(node, ast.Name) and isinstance(node.ctx, ast.Store) and node.col_offset > 0:
+                    self.assertNotIn(node.id, taken, path.name)
+
+    def test_operators_have_nothing_near_them_that_could_change_an_object(self):
+        for path in package_files():
+            for node in ast.walk(ast.parse(path.read_text("ascii"))):
+                with self.subTest(path.name):
+                    self.assertNotIsInstance(node, (ast.AugAssign, ast.GeneratorExp, ast.Lambda, ast.Global, ast.Match))
 
     def check_import(self, node):
         names = [alias.name for alias in node.names]
