@@ -71,8 +71,11 @@ def _settled(table, inside, outside, many):
 
 def _entering(line, outside, many):
     # Always the least label: the greatest item would be quicker at times, but could go round in circles.
-    labels = [label for label, item in zip(outside, line) if label < many and item > 0]
-    return outside.index(min(labels)) if labels else None
+    chosen = None
+    for place, label in enumerate(outside):
+        if label < many and line[place] > 0 and (chosen is None or label < outside[chosen]):
+            chosen = place
+    return chosen
 
 
 def _leaving(table, inside, place):

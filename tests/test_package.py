@@ -155,6 +155,18 @@ class Files(unittest.TestCase):
                 with self.subTest(path.name):
                     self.assertNotIsInstance(node, (ast.AugAssign, ast.GeneratorExp, ast.Lambda, ast.Global, ast.Match))
 
+    def test_what_operators_run_calls_nothing_that_may_be_held(self):
+        # A call of a method with the name of an attribute may be a call of what an object keeps.
+        trees = [ast.parse(path.read_text("ascii")) for path in package_files()]
+        attributes = attribute_names(trees)
+        self.assertLessEqual({"given", "error", "word", "weights", "index", "limit", "rows", "owns"}, attributes)
+        ran = run_by_operators(trees)
+        self.assertLessEqual({"__bool__", "owns", "put", "first_shut", "solve", "corners_of"}, set(ran))
+        for name, functions in ran.items():
+            with self.subTest(name):
+                called = {each for function in functions for each in called_methods(function)}
+                self.assertEqual(called & attributes, set())
+
     def check_import(self, node):
         names = [alias.name for alias in node.names]
         if node.module in LIBRARY:
@@ -173,6 +185,50 @@ def defined_names(tree):
         elif isinstance(node, ast.Assign):
             names.update(target.id for target in node.targets)
     return names
+
+
+def attribute_names(trees):
+    """The names of what objects of the package keep, and of their properties."""
+    nodes = [node for tree in trees for node in ast.walk(tree)]
+    stored = {node.attr for node in nodes if isinstance(node, ast.Attribute) and isinstance(node.ctx, ast.Store)}
+    return stored | {node.name for node in nodes if is_property(node)}
+
+
+def is_property(node):
+    return isinstance(node, ast.FunctionDef) and any(
+        isinstance(each, ast.Name) and each.id == "property" for each in node.decorator_list)
+
+
+def run_by_operators(trees):
+    """What operators and properties run, by name: whatever has a name that is read there counts as run."""
+    by_name = {}
+    for tree in trees:
+        for node in ast.walk(tree):
+            if isinstance(node, ast.FunctionDef):
+                by_name.setdefault(node.name, []).append(node)
+    found = {}
+    waiting = [name for name, functions in by_name.items()
+               if (name.startswith("__") and name != "__init__") or any(map(is_property, functions))]
+    while waiting:
+        name = waiting.pop()
+        if name in by_name and name not in found:
+            found[name] = by_name[name]
+            waiting.extend(read for function in by_name[name] for read in names_read(function))
+    return found
+
+
+def names_read(function):
+    for node in ast.walk(function):
+        if isinstance(node, ast.Name):
+            yield node.id
+        elif isinstance(node, ast.Attribute):
+            yield node.attr
+
+
+def called_methods(function):
+    for node in ast.walk(function):
+        if isinstance(node, ast.Call) and isinstance(node.func, ast.Attribute):
+            yield node.func.attr
 
 
 if __name__ == "__main__":
